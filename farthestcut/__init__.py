@@ -1,0 +1,1 @@
+"""Farthestcut: ties taken away so that the way is longest."""

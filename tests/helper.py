@@ -1,0 +1,185 @@
+"""What several tests need: refusals looked at whole, things of many kinds, webs, and every way by brute force."""
+
+import copy
+import itertools
+import random
+from fractions import Fraction
+
+from farthestcut import errors
+
+PLAIN = (
+    "NoNumber", "NoPurse", "NoTaking", "NoTie", "TooMany", "NoRooms", "NoSide", "NoAdds",
+    "NoTurn", "NoJoin", "NoChange", "NoDeed", "NoRow", "NoName",
+)
+FIELDS = {
+    "NoWeb": ("part", "number"), "NoWay": ("at",), "NoFlow": ("at",), "NoSpread": ("at",), "NoMix": ("at",),
+    "NoCases": ("path",), "Unbalanced": ("place",), "NoText": ("row",),
+}
+ALL_NAMES = PLAIN + tuple(FIELDS)
+
+
+class Prickly:
+    """Refuses to be compared, counted, hashed or asked for its truth."""
+
+    def fail(self, *others):
+        raise AssertionError("a thing of another kind was asked more than its kind")
+
+    __eq__ = __ne__ = __lt__ = __le__ = __gt__ = __ge__ = fail
+    __len__ = __hash__ = __bool__ = __iter__ = __getitem__ = __contains__ = fail
+
+
+def odd_things():
+    """Things of many kinds, new ones at each call: none is a web, a taking, a purse, a way, prices or cases."""
+    ring = []
+    ring.append(ring)
+    return [
+        None, True, False, 0, 1, -1, 10 ** 60, "", "a", "way", "one", (), (0,), (1, 2, 3), (None, None), ("a", 1),
+        {}, {"a": 1}, {1: 2}, set(), {1}, frozenset(), b"a", object(), len, int, Prickly(), ring, ("way", ring, ring),
+        [None], [True], ["a"], [[]], [()], [-1], [99], [Prickly()], (True, 1), (1, True), (1, 0), (2, 2), (0, 2),
+        (1, -1), (-1, 2), [1, 0],
+    ]
+
+
+def refusal(function, *things):
+    """(class name, fields) of what the call refuses with, None where it doesn't; what is handed in must stay."""
+    ahead = snapshot(things)
+    try:
+        function(*things)
+    except errors.CutError as e:
+        assert snapshot(things) == ahead, "what was handed in is changed"
+        return described(e)
+    assert snapshot(things) == ahead, "what was handed in is changed"
+    return None
+
+
+def described(e):
+    name = e.__class__.__name__
+    assert e.__class__ is getattr(errors, name)
+    assert isinstance(e, ValueError)
+    assert e.__class__.__mro__[1] is errors.CutError
+    return (name,) + tuple(getattr(e, field) for field in FIELDS.get(name, ()))
+
+
+def snapshot(thing, above=()):
+    """A picture of a thing that tells kinds apart, and ends where a thing holds itself."""
+    if isinstance(thing, (list, tuple)):
+        if id(thing) in above:
+            return "round"
+        return (thing.__class__.__name__, tuple(snapshot(one, above + (id(thing),)) for one in thing))
+    if isinstance(thing, dict):
+        return ("dict", tuple((snapshot(key), snapshot(thing[key], above)) for key in thing))
+    if isinstance(thing, (int, str, bytes, set, frozenset)) or thing is None:
+        return (thing.__class__.__name__, repr(thing))
+    return ("other", id(thing))
+
+
+def lists_and_dicts(thing):
+    """Each list and dict within a thing, once for each place where it stands."""
+    found = []
+    if isinstance(thing, (list, dict)):
+        found.append(thing)
+    if isinstance(thing, (list, tuple)):
+        for one in thing:
+            found.extend(lists_and_dicts(one))
+    if isinstance(thing, dict):
+        for one in thing.values():
+            found.extend(lists_and_dicts(one))
+    return found
+
+
+def is_askers_own(told, handed_in=()):
+    """Whether no list or dict stands in two places of what is told, and none of what was handed in."""
+    numbers = [id(one) for one in lists_and_dicts(told)]
+    others = {id(one) for one in lists_and_dicts(list(handed_in))}
+    return len(set(numbers)) == len(numbers) and not others.intersection(numbers)
+
+
+def tie(one, other, word="one", length=(1, 1), worth=(1, 1)):
+    return (one, other, word, length, worth)
+
+
+def diamond():
+    """a to d by b (0, 1) or by c (2, 3), and a crossing tie of both (4)."""
+    return (
+        ["a", "b", "c", "d"],
+        [
+            tie("a", "b", "one", (1, 1), (1, 1)),
+            tie("b", "d", "one", (2, 1), (1, 2)),
+            tie("a", "c", "one", (3, 2), (2, 1)),
+            tie("d", "c", "both", (5, 2), None),
+            tie("c", "b", "both", (1, 3), (1, 3)),
+        ],
+        "a",
+        "d",
+    )
+
+
+def some_ratio(chance, least=0):
+    value = Fraction(chance.randint(least, 6), chance.choice((1, 1, 1, 2, 3)))
+    return (value.numerator, value.denominator)
+
+
+def some_web(chance, most_places=5, most_ties=8):
+    places = ["a", "bb", "ccc", "dddd", "eeeee", "ffffff", "ggggggg"][:chance.randint(2, most_places)]
+    chance.shuffle(places)
+    ties = []
+    for count in range(chance.randint(0, most_ties)):
+        ends = chance.sample(places, 2)
+        worth = None if chance.random() < 0.2 else some_ratio(chance, 1)
+        ties.append((ends[0], ends[1], chance.choice(("one", "both")), some_ratio(chance), worth))
+    ends = chance.sample(places, 2)
+    return (places, ties, ends[0], ends[1])
+
+
+def some_webs(seed, count, most_places=5, most_ties=8):
+    chance = random.Random(seed)
+    return [some_web(chance, most_places, most_ties) for k in range(count)]
+
+
+def all_ways(web, taken=()):
+    """Each way, by going on from first in every manner."""
+    places, ties, first, last = web
+    found = []
+    waiting = [([], [first])]
+    while waiting:
+        way, been = waiting.pop()
+        if been[-1] == last:
+            found.append(way)
+            continue
+        for number, (one, other, word, length, worth) in enumerate(ties):
+            if number in taken:
+                continue
+            if one == been[-1] and other not in been:
+                waiting.append((way + [number], been + [other]))
+            if word == "both" and other == been[-1] and one not in been:
+                waiting.append((way + [number], been + [one]))
+    return sorted(found)
+
+
+def size(web, way):
+    return sum((Fraction(*web[1][number][3]) for number in way), Fraction(0))
+
+
+def least_size(web, taken=()):
+    """The least way's length as a Fraction, or None."""
+    return min((size(web, way) for way in all_ways(web, taken)), default=None)
+
+
+def pair(value):
+    """A Fraction as the program's tuple; None stays."""
+    return None if value is None else (value.numerator, value.denominator)
+
+
+def all_takings(web, purse):
+    """Each taking within the purse."""
+    free = [number for number, one in enumerate(web[1]) if one[4] is not None]
+    found = []
+    for many in range(len(free) + 1):
+        for taking in itertools.combinations(free, many):
+            if sum((Fraction(*web[1][number][4]) for number in taking), Fraction(0)) <= Fraction(*purse):
+                found.append(list(taking))
+    return found
+
+
+def deep(thing):
+    return copy.deepcopy(thing)

@@ -3,19 +3,36 @@
 from farthestcut.numbers import ratio
 from farthestcut.steps import steps_left
 from farthestcut.webs import FIRST, LAST, LENGTH, PLACES, TIES
-from farthestcut.wholes import as_whole, shared_bottom
+from farthestcut.wholes import on_one_scale
 
 
 def shortest(web, taken):
-    lengths = [tie[LENGTH] for tie in web[TIES]]
-    bottom = shared_bottom(lengths)
-    found = all_reached(web, taken, [as_whole(length, bottom) for length in lengths])
+    scaled = scaled_lengths(web)
+    found = all_reached(web, taken, scaled[0])
     prices = {}
     for place in web[PLACES]:
-        prices[place] = ratio(found[place][0], bottom) if place in found else None
+        prices[place] = ratio(found[place][0], scaled[1]) if place in found else None
     if web[LAST] not in found:
         return (None, None, prices)
     return (found[web[LAST]][1], prices[web[LAST]], prices)
+
+
+def scaled_lengths(web):
+    return on_one_scale([tie[LENGTH] for tie in web[TIES]])
+
+
+def shortest_by(web, taken, sizes):
+    # The least way alone, as a tuple of its size and itself, or None.
+    return all_reached(web, taken, sizes).get(web[LAST])
+
+
+def size_along(sizes, way):
+    return sum([sizes[number] for number in way])
+
+
+def side_reached(web, taken):
+    found = all_reached(web, taken, [0 for tie in web[TIES]])
+    return [place for place in web[PLACES] if place in found]
 
 
 def all_reached(web, taken, sizes):

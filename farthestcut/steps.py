@@ -34,6 +34,14 @@ def walk_way(web, taken, thing):
     return places
 
 
+def is_way(web, taken, thing):
+    try:
+        walk_way(web, taken, thing)
+    except NoWay:
+        return False
+    return True
+
+
 def place_behind(web, taken, places, number):
     if places[-1] == web[LAST] or not is_tie_number(web, number) or number in taken:
         return None

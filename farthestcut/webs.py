@@ -44,6 +44,12 @@ def is_tie_number(web, thing):
     return is_whole(thing) and 0 <= thing < len(web[TIES])
 
 
+def has_lengths(web, thing):
+    if not isinstance(thing, list) or len(thing) != len(web[TIES]):
+        return False
+    return all([is_length(one) for one in thing])
+
+
 def look_at_web(thing):
     if not isinstance(thing, tuple) or len(thing) != 4:
         raise NoWeb("web", None)

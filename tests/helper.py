@@ -183,3 +183,77 @@ def all_takings(web, purse):
 
 def deep(thing):
     return copy.deepcopy(thing)
+
+
+WRONG_WEBS = (None, (), ["a"], 0, "web")
+WRONG_PURSES = (None, (-1, 1), (2, 4), (0, 2), (1, 0), 1, True, [1, 1], "1", (True, 1), (1,), ())
+WRONG_TAKINGS = (None, [3], [1, 0], [True], (0,), [5], [0, 0], [-1], {})
+BAD_WEB = ("NoWeb", "web", None)
+
+
+def worth(web, taking):
+    return sum((Fraction(*web[1][number][4]) for number in taking), Fraction(0))
+
+
+def most_at_a_time(web, purse):
+    return max(len(taking) for taking in all_takings(web, purse))
+
+
+def lengths_left(web, purse):
+    """Of each taking within the purse the least length that it leaves, or None."""
+    ways = [(set(way), size(web, way)) for way in all_ways(web)]
+    told = {}
+    for taking in all_takings(web, purse):
+        told[tuple(taking)] = min((long for way, long in ways if not way.intersection(taking)), default=None)
+    return told
+
+
+def greatest(lengths):
+    """The greatest, None above all others."""
+    return None if None in lengths else max(lengths)
+
+
+def leads_out(one, side):
+    if one[2] == "one":
+        return one[0] in side and one[1] not in side
+    return (one[0] in side) != (one[1] in side)
+
+
+def all_sides(web):
+    """Each list of places in the web's order with first, without last."""
+    places, ties, first, last = web
+    found = []
+    for many in range(len(places)):
+        for side in itertools.combinations(places, many):
+            if first in side and last not in side:
+                found.append(list(side))
+    return found
+
+
+def room_out(web, rooms, taking, side):
+    return sum((Fraction(*rooms[number]) for number, one in enumerate(web[1])
+                if number not in taking and leads_out(one, side)), Fraction(0))
+
+
+def ways_in(cases):
+    """The way, or flow, of each case."""
+    return [cases[1]] + [one for number, inner in cases[2] for one in ways_in(inner)]
+
+
+def purses_around(chance, web):
+    """A purse just at the worth of a taking, one a little less, one a little more, and any one."""
+    free = [number for number, one in enumerate(web[1]) if one[4] is not None]
+    at = worth(web, chance.sample(free, min(len(free), chance.randint(0, 3))))
+    little = Fraction(1, 10 ** 20)
+    return [pair(one) for one in (at, max(at - little, Fraction(0)), at + little)] + [some_ratio(chance)]
+
+
+def full_web(seed, worths=((1, 1),)):
+    """Seven places in a row, each with one to one or two on, and ties of both; fourteen in all, the first to the last."""
+    chance = random.Random(seed)
+    places = list("abcdefg")
+    ends = [(k, k + 1) for k in range(6)] + [(k, k + 2) for k in range(5)]
+    ends += [chance.sample(range(7), 2) for k in range(3)]
+    ties = [(places[one], places[other], chance.choice(("one", "both")), some_ratio(chance), chance.choice(worths))
+            for one, other in ends]
+    return (places, ties, "a", "g")

@@ -249,7 +249,7 @@ def purses_around(chance, web):
 
 
 def full_web(seed, worths=((1, 1),)):
-    """Seven places in a row, each with one to one or two on, and ties of both; fourteen in all, the first to the last."""
+    """Seven places in a row, fourteen ties: from each to the next one and the one behind that, and three any ones."""
     chance = random.Random(seed)
     places = list("abcdefg")
     ends = [(k, k + 1) for k in range(6)] + [(k, k + 2) for k in range(5)]
@@ -257,3 +257,77 @@ def full_web(seed, worths=((1, 1),)):
     ties = [(places[one], places[other], chance.choice(("one", "both")), some_ratio(chance), chance.choice(worths))
             for one, other in ends]
     return (places, ties, "a", "g")
+
+
+def all_paths(case, path=()):
+    """Each case's path, each ahead of those within it."""
+    told = [list(path)]
+    for number, (one, inner) in enumerate(case[2]):
+        told.extend(all_paths(inner, path + (number,)))
+    return told
+
+
+def at_path(case, path):
+    for number in path:
+        case = case[2][number][1]
+    return case
+
+
+def put_at(case, path, other):
+    if not path:
+        return other
+    inner = list(case[2])
+    inner[path[0]] = (inner[path[0]][0], put_at(inner[path[0]][1], path[1:], other))
+    return (case[0], case[1], inner)
+
+
+def spoilt_case(case):
+    """The case made wrong in its word, its tuple or its list of cases, in many manners."""
+    word, thing, inner = case
+    other_word = "way" if word == "flow" else "flow"
+    told = [(word + "s", thing, inner), ("", thing, inner), (None, thing, inner), (Prickly(), thing, inner),
+            (word.encode(), thing, inner), (other_word, thing, inner), [word, thing, inner], (word, thing),
+            (word, thing, inner, []), (), None, (thing, word, inner), (word, inner, thing),
+            (word, thing, inner + [(0, case)]), (word, thing, tuple(inner)), (word, thing, None), (word, thing, {}),
+            (word, thing, Prickly()), (word, thing, inner + [None])]
+    for number, (one, other) in enumerate(inner):
+        rest = inner[:number], inner[number + 1:]
+        for wrong in ((one + 1, other), (str(one), other), (None, other), (bool(one), other), (one,), (),
+                      (one, other, other), [one, other], None, one, other, (Prickly(), other), Prickly()):
+            told.append((word, thing, rest[0] + [wrong] + rest[1]))
+        told.append((word, thing, rest[0] + rest[1]))
+        told.append((word, thing, rest[0] + [inner[number]] * 2 + rest[1]))
+    if len(inner) > 1:
+        told.append((word, thing, inner[::-1]))
+        told.append((word, thing, [inner[1], inner[0]] + inner[2:]))
+        told.append((word, thing, [inner[0]] * len(inner)))
+    return told
+
+
+def spoilt_ways(case):
+    """The case with things that are no ways, in many manners."""
+    word, way, inner = case
+    wrong = [way + [0], way[:-1], tuple(way), None, way[:-1] + [str(way[-1])], [-1], Prickly(), [], [True], {}, "0", 0]
+    return [(word, one, inner) for one in wrong]
+
+
+def wrong_lists(right):
+    """Lists and other things that are no rooms, or adds, for as many ties."""
+    told = [None, tuple(right), {}, dict(enumerate(right)), "", 0, True, right[:-1], right + [(1, 1)], [], Prickly()]
+    for number in range(len(right)):
+        for thing in ((-1, 1), (2, 4), (0, 2), (1, 0), (1, -1), 1, True, None, "1", [1, 1], (1,), (True, 1), (1, True),
+                      (1, 1, 1), Prickly()):
+            told.append(right[:number] + [thing] + right[number + 1:])
+    return told
+
+
+def made_longer(web, more):
+    """The web with each tie longer by a Fraction."""
+    places, ties, first, last = web
+    ties = [one[:3] + (pair(Fraction(*one[3]) + add), one[4]) for one, add in zip(ties, more)]
+    return (places, ties, first, last)
+
+
+def lengthened(web, adds, lengthening):
+    return made_longer(web, [Fraction(*add) if number in lengthening else Fraction(0)
+                             for number, add in enumerate(adds)])

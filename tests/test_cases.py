@@ -4,8 +4,8 @@ from fractions import Fraction
 
 from farthestcut.cases import claim_of_cases
 from helper import (
-    Prickly, all_takings, all_ways, deep, diamond, least_size, odd_things, pair, refusal, size, some_ratio, some_webs,
-    tie,
+    all_paths, all_takings, all_ways, at_path, deep, diamond, least_size, odd_things, pair, put_at, refusal, size,
+    some_ratio, some_webs, spoilt_case, spoilt_ways, tie,
 )
 
 LONG = 10 ** 60 - 1
@@ -34,51 +34,6 @@ def write_cases(web, purse, pick, taken=(), kept=()):
 
 def claimed(web, case):
     return max([size(web, case[1])] + [claimed(web, inner) for number, inner in case[2]])
-
-
-def all_paths(case, path=()):
-    """Each case's path, each ahead of those within it."""
-    told = [list(path)]
-    for number, (one, inner) in enumerate(case[2]):
-        told.extend(all_paths(inner, path + (number,)))
-    return told
-
-
-def at_path(case, path):
-    for number in path:
-        case = case[2][number][1]
-    return case
-
-
-def put_at(case, path, other):
-    if not path:
-        return other
-    inner = list(case[2])
-    inner[path[0]] = (inner[path[0]][0], put_at(inner[path[0]][1], path[1:], other))
-    return (case[0], case[1], inner)
-
-
-def spoilt(case):
-    """The case made wrong in itself, in many manners."""
-    word, way, inner = case
-    told = [("ways", way, inner), ("", way, inner), (None, way, inner), (Prickly(), way, inner), (b"way", way, inner),
-            ("flow", way, inner), [word, way, inner], (word, way), (word, way, inner, []), (),
-            (word, way + [0], inner), (word, way[:-1], inner), (word, tuple(way), inner), (word, None, inner),
-            (word, way[:-1] + [str(way[-1])], inner), (word, [-1], inner), (word, Prickly(), inner),
-            (word, way, inner + [(0, case)]), (word, way, tuple(inner)), (word, way, None), (word, way, {}),
-            (word, way, Prickly()), (word, way, inner + [None])]
-    for number, (one, other) in enumerate(inner):
-        rest = inner[:number], inner[number + 1:]
-        for wrong in ((one + 1, other), (str(one), other), (None, other), (bool(one), other), (one,), (),
-                      (one, other, other), [one, other], None, one, other, (Prickly(), other), Prickly()):
-            told.append((word, way, rest[0] + [wrong] + rest[1]))
-        told.append((word, way, rest[0] + rest[1]))
-        told.append((word, way, rest[0] + [inner[number]] * 2 + rest[1]))
-    if len(inner) > 1:
-        told.append((word, way, inner[::-1]))
-        told.append((word, way, [inner[1], inner[0]] + inner[2:]))
-        told.append((word, way, [inner[0]] * len(inner)))
-    return told
 
 
 def ladder():
@@ -187,7 +142,7 @@ class TestRefused(unittest.TestCase):
             right = write_cases(web, purse, pick)
             self.assertEqual(claim_of_cases(web, purse, right), pair(claimed(web, right)))
             for path in all_paths(right):
-                for wrong in spoilt(at_path(right, path)):
+                for wrong in spoilt_case(at_path(right, path)) + spoilt_ways(at_path(right, path)):
                     self.assertEqual(refusal(claim_of_cases, web, purse, put_at(right, path, wrong)),
                                      ("NoCases", path), (path, wrong))
 

@@ -5,22 +5,12 @@ from fractions import Fraction
 from farthestcut.flows import amount_of, look_at_flow, room_of
 from helper import (
     BAD_WEB, WRONG_TAKINGS, WRONG_WEBS, Prickly, all_sides, all_takings, all_ways, deep, diamond, odd_things, pair,
-    refusal, room_out, snapshot, some_ratio, some_webs, tie,
+    refusal, room_out, snapshot, some_ratio, some_webs, tie, wrong_lists,
 )
 
 LONG = 10 ** 60 - 1
 ROOMS = [(3, 1), (2, 1), (1, 2), (5, 1), (1, 1)]
 ZERO = (0, 1)
-
-
-def wrong_rooms(right):
-    """Lists and other things that are no rooms, or adds, for as many ties."""
-    told = [None, tuple(right), {}, dict(enumerate(right)), "", 0, True, right[:-1], right + [(1, 1)], [], Prickly()]
-    for number in range(len(right)):
-        for thing in ((-1, 1), (2, 4), (0, 2), (1, 0), (1, -1), 1, True, None, "1", [1, 1], (1,), (True, 1), (1, True),
-                      (1, 1, 1), Prickly()):
-            told.append(right[:number] + [thing] + right[number + 1:])
-    return told
 
 
 def expected(web, rooms, taking, flow):
@@ -113,8 +103,8 @@ class TestFlow(unittest.TestCase):
 
     def test_no_fraction(self):
         for number in range(5):
-            for thing in (None, 0, 1, True, "0", [0, 1], (0,), (0, 2), (2, 2), (1, -1), (0, 1, 1), (False, 1), (0, True),
-                          (), {}, Prickly()):
+            for thing in (None, 0, 1, True, "0", [0, 1], (0,), (0, 2), (2, 2), (1, -1), (0, 1, 1), (False, 1),
+                          (0, True), (), {}, Prickly()):
                 flow = [ZERO] * 5
                 flow[number] = thing
                 self.assertEqual(refusal(look_at_flow, diamond(), ROOMS, [], flow), ("NoFlow", number))
@@ -200,7 +190,8 @@ class TestAmount(unittest.TestCase):
 
     def test_of_long_numbers(self):
         web = (["a", "b"], [tie("a", "b"), tie("b", "a")], "a", "b")
-        self.assertEqual(amount_of(web, [(LONG, LONG - 1), (1, LONG)]), pair(Fraction(LONG, LONG - 1) - Fraction(1, LONG)))
+        right = Fraction(LONG, LONG - 1) - Fraction(1, LONG)
+        self.assertEqual(amount_of(web, [(LONG, LONG - 1), (1, LONG)]), pair(right))
 
 
 class TestRoom(unittest.TestCase):
@@ -257,7 +248,7 @@ class TestRoom(unittest.TestCase):
 
 class TestOrder(unittest.TestCase):
     def test_no_rooms(self):
-        for rooms in wrong_rooms(ROOMS):
+        for rooms in wrong_lists(ROOMS):
             self.assertEqual(refusal(look_at_flow, diamond(), rooms, [], [ZERO] * 5), ("NoRooms",))
             self.assertEqual(refusal(look_at_flow, diamond(), rooms, None, None), ("NoRooms",))
             self.assertEqual(refusal(room_of, diamond(), rooms, [], ["a"]), ("NoRooms",))

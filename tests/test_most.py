@@ -6,9 +6,9 @@ from farthestcut.flows import amount_of, look_at_flow, room_of
 from farthestcut.most import most_flow
 from helper import (
     BAD_WEB, WRONG_TAKINGS, WRONG_WEBS, all_sides, all_takings, deep, diamond, full_web, is_askers_own, pair, refusal,
-    room_out, some_ratio, some_webs, tie,
+    room_out, some_ratio, some_webs, tie, wrong_lists,
 )
-from test_flows import ROOMS, wrong_rooms
+from test_flows import ROOMS
 
 LONG = 10 ** 60 - 1
 ZERO = (0, 1)
@@ -121,7 +121,7 @@ class TestRefused(unittest.TestCase):
         for web in WRONG_WEBS:
             self.assertEqual(refusal(most_flow, web, None, None), BAD_WEB)
             self.assertEqual(refusal(most_flow, web, ROOMS, []), BAD_WEB)
-        for rooms in wrong_rooms(ROOMS):
+        for rooms in wrong_lists(ROOMS):
             self.assertEqual(refusal(most_flow, diamond(), rooms, None), ("NoRooms",))
             self.assertEqual(refusal(most_flow, diamond(), rooms, []), ("NoRooms",))
         for taking in WRONG_TAKINGS:

@@ -76,8 +76,8 @@ class TestTold(Checked):
                 self.assertEqual(self.check(web, (purse, 1), ways), "enough" if purse < many else "hit")
 
     def test_watched_ties(self):
-        web = (["a", "b", "c"], [tie("a", "b", "one", (1, 1), None), tie("b", "c", "both", (1, 1), None), tie("a", "c")],
-               "a", "c")
+        watched = [tie("a", "b", "one", (1, 1), None), tie("b", "c", "both", (1, 1), None)]
+        web = (["a", "b", "c"], watched + [tie("a", "c")], "a", "c")
         self.assertEqual(are_enough(web, (9, 1), [[0, 1]]), ("enough", ("way", [0, 1], [])))
         self.assertEqual(are_enough(web, (9, 1), [[2]]), ("hit", [2]))
         self.assertEqual(self.check(web, (9, 1), [[2], [0, 1]]), "enough")

@@ -1,27 +1,11 @@
 """Cases of lengthenings, and the best lengthening with cases that show that no other one leaves a longer least way."""
 
 from farthestcut.casework import listed_cases, look_at_cases, written_cases
-from farthestcut.longer import least_longer, look_at_adds
+from farthestcut.longer import least_longer, look_at_adds, sizes_of
 from farthestcut.numbers import ratio
 from farthestcut.shortest import shortest_by, side_reached, size_along
 from farthestcut.steps import is_way
 from farthestcut.takings import MOST_TAKEN, look_at_many, look_at_purse, means_of
-from farthestcut.webs import LENGTH, TIES
-from farthestcut.wholes import on_one_scale
-
-
-class Sizes:
-    # Lengths and adds on one scale, as whole numbers.
-    def __init__(self, plain, more, bottom):
-        self.plain = plain
-        self.more = more
-        self.bottom = bottom
-
-
-def sizes_of(web, adds):
-    many = len(adds)
-    scaled = on_one_scale([tie[LENGTH] for tie in web[TIES]] + adds)
-    return Sizes(scaled[0][:many], scaled[0][many:], scaled[1])
 
 
 def sizes_with(sizes, lengthening):

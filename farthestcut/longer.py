@@ -7,6 +7,21 @@ from farthestcut.shortest import shortest
 from farthestcut.takings import look_at_taking
 from farthestcut.ways import length_of
 from farthestcut.webs import FIRST, LAST, LENGTH, ONE, OTHER, PLACES, TIES, WORD, WORTH, has_lengths, look_at_web
+from farthestcut.wholes import on_one_scale
+
+
+class Sizes:
+    # Lengths and adds on one scale, as whole numbers.
+    def __init__(self, plain, more, bottom):
+        self.plain = plain
+        self.more = more
+        self.bottom = bottom
+
+
+def sizes_of(web, adds):
+    many = len(adds)
+    scaled = on_one_scale([tie[LENGTH] for tie in web[TIES]] + adds)
+    return Sizes(scaled[0][:many], scaled[0][many:], scaled[1])
 
 
 def look_at_adds(web, thing):

@@ -2,7 +2,7 @@
 
 from farthestcut.divisors import common_divisor
 from farthestcut.errors import NoNumber
-from farthestcut.names import is_whole
+from farthestcut.names import is_ratio, is_whole
 
 NOUGHT = (0, 1)
 
@@ -60,3 +60,9 @@ def sum_of(some):
     for one in some:
         total = plus(total, one)
     return total
+
+
+def look_at_length(thing):
+    # Of a rate, too: both are fractions from 0 on.
+    if not is_ratio(thing) or thing[0] < 0:
+        raise NoNumber("a length, or a rate, is a fraction from 0 on")

@@ -1,6 +1,7 @@
 """Going along ties, of a web that is one; what is taken may stand in any order, and watched ties too."""
 
 from farthestcut.errors import NoWay
+from farthestcut.names import is_whole
 from farthestcut.webs import FIRST, LAST, ONE, OTHER, TIES, WORD, is_tie_number
 
 
@@ -49,3 +50,12 @@ def place_behind(web, taken, places, number):
         if here == places[-1] and there not in places:
             return there
     return None
+
+
+def look_at_numbers(thing):
+    # Without a web no more can be asked of a way than that it is a list of what could be ties' numbers.
+    if not isinstance(thing, list):
+        raise NoWay(None)
+    for at, number in enumerate(thing):
+        if not is_whole(number) or number < 0:
+            raise NoWay(at)

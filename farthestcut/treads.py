@@ -12,19 +12,24 @@ def treads_of(web, purse):
     look_at_many(web, purse, MOST_TAKEN)
     scaled = scaled_lengths(web)
     means = means_of(web, purse)
-    found = longest_by_cost(web, scaled[0], means)
+    sizes_left = []
+    for taking, cost in takings_within(means):
+        way = shortest_by(web, taking, scaled[0])
+        sizes_left.append((cost, None if way is None else way[0]))
+    return treads_from(sizes_left, means.bottom, scaled[1])
+
+
+def treads_from(sizes_left, costs_bottom, sizes_bottom):
+    # Of tuples (cost, size) in any order, whole numbers on two scales; a size is None where there is no way.
     treads = []
-    for cost, size in rising_alone(found):
-        length = None if size is None else ratio(size, scaled[1])
-        treads.append((ratio(cost, means.bottom), length))
+    for cost, size in rising_alone(longest_by_cost(sizes_left)):
+        treads.append((ratio(cost, costs_bottom), None if size is None else ratio(size, sizes_bottom)))
     return treads
 
 
-def longest_by_cost(web, sizes, means):
+def longest_by_cost(sizes_left):
     found = {}
-    for taking, cost in takings_within(means):
-        way = shortest_by(web, taking, sizes)
-        size = None if way is None else way[0]
+    for cost, size in sizes_left:
         if cost not in found or is_longer(size, found[cost]):
             found[cost] = size
     return found

@@ -187,6 +187,7 @@ def deep(thing):
 
 WRONG_WEBS = (None, (), ["a"], 0, "web")
 WRONG_PURSES = (None, (-1, 1), (2, 4), (0, 2), (1, 0), 1, True, [1, 1], "1", (True, 1), (1,), ())
+WRONG_NUMBERS = WRONG_PURSES
 WRONG_TAKINGS = (None, [3], [1, 0], [True], (0,), [5], [0, 0], [-1], {})
 BAD_WEB = ("NoWeb", "web", None)
 
@@ -331,3 +332,39 @@ def made_longer(web, more):
 def lengthened(web, adds, lengthening):
     return made_longer(web, [Fraction(*add) if number in lengthening else Fraction(0)
                              for number, add in enumerate(adds)])
+
+
+def spread_cost(web, spread):
+    return sum((Fraction(*one[4]) * Fraction(*more) for one, more in zip(web[1], spread) if one[4] is not None),
+               Fraction(0))
+
+
+def some_mix(chance, web):
+    """A mix of some of the web's ways; None where it has none."""
+    ways = all_ways(web)
+    if not ways:
+        return None
+    picked = chance.sample(ways, chance.randint(1, min(len(ways), 4)))
+    parts = [chance.randint(1, 5) for way in picked]
+    return [(way, pair(Fraction(part, sum(parts)))) for way, part in zip(picked, parts)]
+
+
+def some_spread(chance, web, adds, purse):
+    """A spread within the purse: parts of the adds, all made less where they cost too much."""
+    spread = [Fraction(0) if one[4] is None else Fraction(*add) * Fraction(chance.randint(0, 3), 3)
+              for one, add in zip(web[1], adds)]
+    cost = spread_cost(web, [pair(more) for more in spread])
+    if cost > Fraction(*purse):
+        spread = [more * Fraction(*purse) / cost for more in spread]
+    return [pair(more) for more in spread]
+
+
+def mix_claim(web, adds, purse, mix, rate):
+    """What a mix claims at a rate, by the document's words."""
+    total = sum((Fraction(*share) * size(web, way) for way, share in mix), Fraction(0))
+    total += Fraction(*rate) * Fraction(*purse)
+    for number, one in enumerate(web[1]):
+        if one[4] is not None:
+            load = sum((Fraction(*share) for way, share in mix if number in way), Fraction(0))
+            total += Fraction(*adds[number]) * max(load - Fraction(*rate) * Fraction(*one[4]), Fraction(0))
+    return total

@@ -6,7 +6,7 @@ from farthestcut.prices import lets_prices
 from farthestcut.spreads import lets_spread_prices, look_at_spread
 from helper import (
     BAD_WEB, WRONG_PURSES, WRONG_WEBS, Prickly, deep, diamond, least_size, made_longer, odd_things, pair, refusal,
-    some_ratio, some_webs, tie, wrong_lists,
+    some_ratio, some_webs, spread_cost, tie, wrong_lists,
 )
 
 LONG = 10 ** 60 - 1
@@ -15,18 +15,13 @@ ADDS = [(1, 1), (2, 1), (1, 2), (7, 1), (1, 6)]
 LITTLE = Fraction(1, 10 ** 30)
 
 
-def cost(web, spread):
-    return sum((Fraction(*one[4]) * Fraction(*more) for one, more in zip(web[1], spread) if one[4] is not None),
-               Fraction(0))
-
-
 def expected(web, adds, purse, spread):
     """What the document says of a list of as many fractions."""
     for number, more in enumerate(spread):
         most = Fraction(0) if web[1][number][4] is None else Fraction(*adds[number])
         if not 0 <= Fraction(*more) <= most:
             return ("NoSpread", number)
-    return ("NoSpread", None) if cost(web, spread) > Fraction(*purse) else None
+    return ("NoSpread", None) if spread_cost(web, spread) > Fraction(*purse) else None
 
 
 class TestSpread(unittest.TestCase):
@@ -48,11 +43,11 @@ class TestSpread(unittest.TestCase):
     def test_just_at_the_purse_and_a_little_more(self):
         for spread in ([(1, 1), ZERO, ZERO, ZERO, ZERO], [(1, 3), (2, 3), (1, 7), ZERO, (1, 11)],
                        [(1, 1), (2, 1), (1, 2), ZERO, (1, 6)]):
-            at = cost(diamond(), spread)
+            at = spread_cost(diamond(), spread)
             self.assertIsNone(look_at_spread(diamond(), ADDS, pair(at), spread))
             self.assertIsNone(look_at_spread(diamond(), ADDS, pair(at + LITTLE), spread))
             self.assertEqual(refusal(look_at_spread, diamond(), ADDS, pair(at - LITTLE), spread), ("NoSpread", None))
-        self.assertEqual(cost(diamond(), [(1, 1), (2, 1), (1, 2), ZERO, (1, 6)]), Fraction(55, 18))
+        self.assertEqual(spread_cost(diamond(), [(1, 1), (2, 1), (1, 2), ZERO, (1, 6)]), Fraction(55, 18))
 
     def test_watched_ties(self):
         for more in ((1, 1), (7, 1), (1, LONG), (-1, 1)):
@@ -166,7 +161,7 @@ class TestPrices(unittest.TestCase):
         for web in some_webs(112, 60, 4, 5):
             adds = [some_ratio(chance) for one in web[1]]
             spread = [ZERO if one[4] is None else pair(Fraction(*add) / 2) for one, add in zip(web[1], adds)]
-            purse = pair(cost(web, spread))
+            purse = pair(spread_cost(web, spread))
             long = made_longer(web, [Fraction(*more) for more in spread])
             least = least_size(long)
             for k in range(40):

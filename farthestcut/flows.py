@@ -3,7 +3,7 @@
 from farthestcut.errors import NoFlow, NoRooms, NoSide, Unbalanced
 from farthestcut.names import is_ratio
 from farthestcut.numbers import NOUGHT, is_less, ratio, sum_of
-from farthestcut.steps import steps_left
+from farthestcut.steps import numbers_out
 from farthestcut.takings import look_at_taking
 from farthestcut.webs import FIRST, LAST, ONE, OTHER, PLACES, TIES, WORD, has_lengths, is_place, look_at_web
 from farthestcut.wholes import on_one_scale
@@ -81,8 +81,7 @@ def room_of(web, rooms, taking, side):
     look_at_rooms(web, rooms)
     look_at_taking(web, taking)
     look_at_side(web, side)
-    out = [number for number, here, there in steps_left(web, taking) if here in side and there not in side]
-    return sum_of([rooms[number] for number in out])
+    return sum_of([rooms[number] for number in numbers_out(web, taking, side)])
 
 
 def look_at_side(web, thing):

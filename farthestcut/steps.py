@@ -21,6 +21,11 @@ def steps_left(web, taken):
     return steps
 
 
+def numbers_out(web, taken, side):
+    # The ties that are left and lead out of the side; one of both leads so one way about alone.
+    return [number for number, here, there in steps_left(web, taken) if here in side and there not in side]
+
+
 def walk_way(web, taken, thing):
     if not isinstance(thing, list):
         raise NoWay(None)

@@ -368,3 +368,39 @@ def mix_claim(web, adds, purse, mix, rate):
             load = sum((Fraction(*share) for way, share in mix if number in way), Fraction(0))
             total += Fraction(*adds[number]) * max(load - Fraction(*rate) * Fraction(*one[4]), Fraction(0))
     return total
+
+
+def with_change(web, change):
+    """The changed web, by the document's words."""
+    places, ties, first, last = web
+    if change[0] == "tie":
+        ties = ties + [change[1]]
+    elif change[0] == "gone":
+        ties = ties[:change[1]] + ties[change[1] + 1:]
+    else:
+        one = ties[change[1]]
+        one = one[:3] + ((change[2], one[4]) if change[0] == "length" else (one[3], change[2]))
+        ties = ties[:change[1]] + [one] + ties[change[1] + 1:]
+    return (list(places), list(ties), first, last)
+
+
+def some_change(chance, web, plan=None):
+    """A change of the web; lengths and worths are often a little more or less, also of a tie of the plan."""
+    places, ties, first, last = web
+    word = chance.choice(("length", "worth", "tie", "gone"))
+    if not ties or (word == "tie" and len(ties) < 14):
+        one, other = chance.sample(places, 2)
+        worth = chance.choice((None, some_ratio(chance, 1)))
+        return ("tie", (one, other, chance.choice(("one", "both")), some_ratio(chance), worth))
+    number = chance.randrange(len(ties))
+    if plan is not None and chance.random() < 0.5:
+        number = chance.choice(plan[1] + (plan[2] if plan[0] == "left" else []) or [number])
+    if word == "length":
+        now = Fraction(*ties[number][3])
+        little = Fraction(chance.choice((-1, 0, 1)), 10 ** 20)
+        return (word, number, chance.choice((some_ratio(chance), pair(max(now + little, Fraction(0))))))
+    if word == "worth":
+        now = Fraction(*(ties[number][4] or (1, 1)))
+        little = Fraction(chance.choice((-1, 0, 1)), 10 ** 20)
+        return (word, number, chance.choice((None, some_ratio(chance, 1), pair(now + little))))
+    return ("gone", number)

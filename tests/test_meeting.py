@@ -114,6 +114,19 @@ class TestMeeting(MeetingCase):
             for adds in ([(1, 1)] * 6, [(1, 1), ZERO, (2, 1), (1, 3), (5, 1), (7, 1)]):
                 self.check(web, adds, purse)
 
+    def test_what_was_carried_is_carried_otherwise(self):
+        # As more is carried, ever less goes from b to c: first what is beyond that tie's worth, then the rest.
+        for many in (1, 2, 3, 7):
+            ties = [tie("a", "b", "one", ZERO, (many, 1)), tie("b", "c", "one", ZERO), tie("c", "d", "one", ZERO, (many, 1)),
+                    tie("a", "c", "one", (5, 1), (many, 1)), tie("b", "d", "one", (5, 1), (many, 1))]
+            web = (list("abcd"), ties, "a", "d")
+            adds = [(100, 1), (1, 1), (100, 1), (100, 1), (100, 1)]
+            numbers = [self.check(web, adds, (purse, 1)) for purse in range(0, 1500, 3)]
+            self.assertEqual(numbers, sorted(numbers, key=lambda one: Fraction(*one)))
+            # Nine a piece is claimed where the purse pays it for all that the first two ties carry; ten behind that.
+            at = [least_purse(web, adds, (length, 1)) for length in (0, 1, 9, 10)]
+            self.assertEqual(at, [ZERO, (1, 1), (8 * many + 1, 1), (10 * many, 1)])
+
     def test_long_numbers_beside_ones(self):
         web = beside([LONG, 1, LONG - 1], [(1, LONG), (LONG, 1), (1, 1)])
         adds = [(LONG, 1), (LONG, 2), (1, LONG)]

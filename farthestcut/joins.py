@@ -47,7 +47,7 @@ def treads_joined(one, other, purse, size_of_both):
     look_at_purse(purse)
     worths = on_one_scale([worth for worth, length in one + other] + [purse])
     lengths = on_one_scale([length for worth, length in one + other])
-    scaled = list(zip(worths[0], lengths[0]))
+    scaled = list(zip(worths[0][:-1], lengths[0]))
     both = []
     for cost, size in scaled[:len(one)]:
         for other_cost, other_size in scaled[len(one):]:
